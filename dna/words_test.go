@@ -200,6 +200,34 @@ func TestPiecesByTheDocument(t *testing.T) {
 	}
 }
 
+// wordsOf is the words of k letters that stand in a text, without N.
+func wordsOf(text string, k int) []string {
+	var words []string
+	for i := 0; i+k <= len(text); i++ {
+		if word := text[i : i+k]; !strings.Contains(word, "N") {
+			words = append(words, word)
+		}
+	}
+	return words
+}
+
+func TestPiecesHaveJustTheWords(t *testing.T) {
+	r := rand.New(rand.NewSource(11))
+	for range 1000 {
+		read := randomText(r, strings.Repeat("ACGT", 10)+"N", 0, 150)
+		k := 1 + r.Intn(api.MaxK)
+		m := 1 + r.Intn(k)
+		pieces, e := Pieces(read, k, m)
+		var words []string
+		for _, piece := range pieces {
+			words = append(words, wordsOf(piece, k)...)
+		}
+		if want := wordsOf(read, k); !slices.Equal(words, want) || e != api.OK {
+			t.Fatalf("P11: Pieces(%s, %d, %d) have the words %q, want %q", read, k, m, words, want)
+		}
+	}
+}
+
 func TestPiecesWrong(t *testing.T) {
 	for _, c := range []struct {
 		read string

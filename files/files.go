@@ -14,7 +14,9 @@ const (
 	// Draft is the name of the file that is being written; only one is at a time.
 	Draft = "draft"
 	// chunk is how many bytes wait till they go to the disk together: each of its calls may fail, so there should be few.
-	chunk    = 1 << 16
+	chunk = 1 << 16
+	// batch is how many names are taken away till that is made sure of: few, so that a disk on which only some calls go well each time comes to an end too.
+	batch    = 4
 	sealSign = "="
 )
 
@@ -42,8 +44,8 @@ func Of(d *disk.Disk, name string, head string) File {
 
 // Begin begins to write the file, as a draft; a draft that lies about is gone.
 func (f *File) Begin() error {
-	if err := f.remove(Draft); err != nil {
-		return err
+	if _, there := f.disk.Size(Draft); there && !f.disk.Remove(Draft) {
+		return f.failed()
 	}
 	if !f.disk.Create(Draft) {
 		return f.failed()
@@ -90,19 +92,6 @@ func (f *File) flush() error {
 	return f.failed()
 }
 
-// Remove takes the file away, if it is there; that is made sure of with the next names.
-func (f *File) Remove() error { return f.remove(f.name) }
-
-func (f *File) remove(name string) error {
-	if _, there := f.disk.Size(name); !there && !f.disk.Dead() {
-		return nil
-	}
-	if !f.disk.Remove(name) {
-		return f.failed()
-	}
-	return nil
-}
-
 // Load is what stands in the file between its head and its seal: ErrAbsent, if there is no file; ErrBroken, if it begins or ends otherwise, or has another sum.
 func (f *File) Load() (string, error) {
 	size, there := f.disk.Size(f.name)
@@ -126,29 +115,33 @@ func (f *File) Load() (string, error) {
 func (f *File) Broken(behind error) error { return fault.New(api.ErrCorrupt, f.name, behind) }
 
 // failed is the fault that a call of the disk did nothing.
-func (f *File) failed() error { return fault.New(api.ErrDisk, f.name, errFailed) }
+func (f *File) failed() error { return failed(f.name) }
 
-// RemoveAll takes files away, those of the names that are there. Each is made sure of at once, so that it comes to its end even if it is cut off again and again.
+func failed(where string) error { return fault.New(api.ErrDisk, where, errFailed) }
+
+// RemoveAll takes files away, those of the names that are there, and makes sure of it.
 func RemoveAll(d *disk.Disk, names []string) error {
+	removed := 0
 	for _, name := range names {
 		if _, there := d.Size(name); !there {
 			continue
 		}
-		f := Of(d, name, "")
-		if err := f.Remove(); err != nil {
-			return err
+		if !d.Remove(name) {
+			return failed(name)
 		}
-		if err := SyncNames(d); err != nil {
-			return err
+		removed++
+		if removed%batch == 0 && !d.SyncDir() {
+			return failed(name)
 		}
 	}
-	return nil
+	// Names that were taken away earlier may still come back in a crash, so this is needed without any file too.
+	return SyncNames(d)
 }
 
 // SyncNames makes sure of all that was done to names.
 func SyncNames(d *disk.Disk) error {
 	if !d.SyncDir() {
-		return fault.New(api.ErrDisk, "the names", errFailed)
+		return failed("the names")
 	}
 	return nil
 }

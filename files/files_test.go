@@ -205,43 +205,61 @@ func TestNoRoom(t *testing.T) {
 	}
 }
 
-func TestRemove(t *testing.T) {
-	d := saved(t, "A\n")
-	f := Of(d, name, head)
-	for range 2 {
-		if err := f.Remove(); err != nil || len(d.List()) != 0 {
-			t.Errorf("Remove: %v, the files %q", err, d.List())
-		}
+// many is a disk with files a to i, all of them sure.
+func many() *disk.Disk {
+	d := disk.New(1 << 20)
+	for _, name := range strings.Split("abcdefghi", "") {
+		d.Create(name)
 	}
-	d = saved(t, "A\n")
-	d.Die(0)
-	f = Of(d, name, head)
-	if err := f.Remove(); fault.Number(err) != api.ErrDisk {
-		t.Errorf("Remove on a dead disk: %v", err)
-	}
+	d.SyncDir()
+	return d
 }
 
 func TestRemoveAll(t *testing.T) {
-	some := disk.New(1 << 20)
-	for _, name := range []string{"a", "b", "c", "d"} {
-		some.Create(name)
-	}
-	some.SyncDir()
 	for i := 0; ; i++ {
-		d := some.Copy()
+		d := many()
 		d.Fail(i)
-		err := RemoveAll(d, []string{"d", "x", "b", "a"})
+		err := RemoveAll(d, []string{"d", "x", "b", "a", "i", "h"})
 		if d.Failed() > 0 {
-			if fault.Number(err) != api.ErrDisk {
+			if fault.Number(err) != api.ErrDisk || !errors.Is(err, errFailed) {
 				t.Errorf("call %d failed: %v", i, err)
 			}
 			continue
 		}
 		d.Crash([]int{0})
-		if l := d.List(); err != nil || !slices.Equal(l, []string{"c"}) {
+		if l := d.List(); err != nil || !slices.Equal(l, []string{"c", "e", "f", "g"}) {
 			t.Errorf("RemoveAll: %v, the files %q", err, l)
 		}
 		return
+	}
+}
+
+func TestRemoveAllMakesSureOfWhatWasGone(t *testing.T) {
+	d := many()
+	d.Remove("a")
+	if err := RemoveAll(d, []string{"a"}); err != nil {
+		t.Errorf("RemoveAll: %v", err)
+	}
+	d.Crash([]int{0})
+	if l := d.List(); slices.Contains(l, "a") {
+		t.Errorf("behind a crash the files are %q", l)
+	}
+	d.Die(0)
+	if err := RemoveAll(d, nil); fault.Number(err) != api.ErrDisk {
+		t.Errorf("RemoveAll on a dead disk: %v", err)
+	}
+}
+
+// It comes to an end too where it is cut off again and again, and each crash takes back what is not sure.
+func TestRemoveAllComesToItsEnd(t *testing.T) {
+	d := many()
+	for range 9 {
+		d.Die(batch + 1)
+		RemoveAll(d, d.List())
+		d.Crash([]int{0})
+	}
+	if l := d.List(); len(l) != 0 {
+		t.Errorf("the files are %q", l)
 	}
 }
 

@@ -15,7 +15,7 @@ const otherInput = "@q\nGGATTCAGGC\n+\n!!!!!!!!!!\n"
 
 // crashes are some that a disk may have: what was not synced is lost, or stays in part, or all of it.
 func crashes() [][]int {
-	return [][]int{{0, 0, 0, 0, 0, 0, 0, 0, 0, 0, 0, 0}, {1, 1, 1, 1, 1, 1}, {2, 9, 7, 5, 30, 40}, {0}, nil}
+	return [][]int{{0, 0, 0, 0, 0, 0, 0, 0, 0, 0, 0, 0}, {1, 1, 1, 1, 1, 1}, {2, 9, 7, 5, 30, 40}, {0}, {3}, {4, 0, 0, 0, 0, 0}, nil}
 }
 
 // hurts lets a disk fail once, or die, behind so many calls.

@@ -2,7 +2,6 @@ package quern
 
 import (
 	"errors"
-	"strconv"
 
 	"quern/api"
 	"quern/disk"
@@ -67,10 +66,7 @@ func (j *job) finish(reads []string) error {
 	if err != nil {
 		return err
 	}
-	if err := files.RemoveAll(j.disk, leftovers()); err != nil {
-		return err
-	}
-	return files.SyncNames(j.disk)
+	return files.RemoveAll(j.disk, leftovers())
 }
 
 // count goes through the parts to the counts.
@@ -108,7 +104,7 @@ func (j *job) saveParts(bins [][]string) error {
 	return nil
 }
 
-// saveTallies counts each part by itself; a part whose tally is sure is not needed any more.
+// saveTallies counts each part by itself.
 func (j *job) saveTallies(bins [][]string) ([][]api.Entry, error) {
 	var tallies [][]api.Entry
 	for bin, pieces := range bins {
@@ -134,10 +130,7 @@ func (j *job) saveTally(t *list, p *part) error {
 		return err
 	}
 	t.entries = countWords(pieces, j.options.K)
-	if err := t.save(); err != nil {
-		return err
-	}
-	return p.Remove()
+	return t.save()
 }
 
 func (j *job) part(bin int) part { return partOf(j.disk, j.plan.run, bin) }
@@ -153,8 +146,7 @@ func isGone(err error) bool {
 func leftovers() []string {
 	names := []string{files.Draft}
 	for bin := range api.MaxBins {
-		number := strconv.Itoa(bin)
-		names = append(names, partName+number, tallyName+number)
+		names = append(names, nameOf(bin))
 	}
 	return names
 }

@@ -11,13 +11,21 @@ import (
 	"quern/files"
 )
 
-// How the files are called. Behind the names of parts and tallies stands their number.
+// How the files are called. Behind the name of a bin stands its number.
 const (
 	planName   = "plan"
-	partName   = "part"
-	tallyName  = "tally"
+	binName    = "bin"
 	countsName = "counts"
 )
+
+// What a file of a bin is: its part at first, then its tally, which takes the part's name and thereby its place.
+const (
+	partKind  = "part"
+	tallyKind = "tally"
+)
+
+// nameOf is how the file of a bin is called.
+func nameOf(bin int) string { return binName + strconv.Itoa(bin) }
 
 // headOf is how a file begins: what it is, to which run it belongs, and a number.
 func headOf(kind string, run string, number int) string {
@@ -58,7 +66,7 @@ type part struct {
 }
 
 func partOf(d *disk.Disk, run string, bin int) part {
-	return part{files.Of(d, partName+strconv.Itoa(bin), headOf(partName, run, bin))}
+	return part{files.Of(d, nameOf(bin), headOf(partKind, run, bin))}
 }
 
 // save writes pieces, one in a line.
@@ -91,7 +99,7 @@ type list struct {
 }
 
 func tallyOf(d *disk.Disk, run string, bin int, k int) list {
-	return list{File: files.Of(d, tallyName+strconv.Itoa(bin), headOf(tallyName, run, bin)), k: k}
+	return list{File: files.Of(d, nameOf(bin), headOf(tallyKind, run, bin)), k: k}
 }
 
 func countsOf(d *disk.Disk, run string, k int) list {

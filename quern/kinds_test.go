@@ -87,14 +87,36 @@ func TestFilesKnowTheirRun(t *testing.T) {
 	if _, err := p.pieces(); !errors.Is(err, files.ErrBroken) {
 		t.Errorf("a part of another run: %v", err)
 	}
-	d.Rename("part1", "part2")
+	d.Rename("bin1", "bin2")
 	p = partOf(d, mine.run, 2)
 	if _, err := p.pieces(); !errors.Is(err, files.ErrBroken) {
 		t.Errorf("another part: %v", err)
 	}
-	d.Rename("part2", "part1")
+	d.Rename("bin2", "bin1")
 	p = partOf(d, mine.run, 1)
 	if pieces, err := p.pieces(); len(pieces) != 2 || err != nil {
 		t.Errorf("the part itself: %q, %v", pieces, err)
+	}
+}
+
+// The tally takes the place of its part, so each must tell itself from the other.
+func TestPartAndTally(t *testing.T) {
+	d := disk.New(wide)
+	run := planOf(d, input, plain).run
+	p, l := partOf(d, run, 1), tallyOf(d, run, 1, 3)
+	if err := p.save(nil); err != nil {
+		t.Fatal(err)
+	}
+	if err := l.load(); !errors.Is(err, files.ErrBroken) {
+		t.Errorf("a part is taken for a tally: %v", err)
+	}
+	if err := l.save(); err != nil {
+		t.Fatal(err)
+	}
+	if _, err := p.pieces(); !errors.Is(err, files.ErrBroken) {
+		t.Errorf("a tally is taken for a part: %v", err)
+	}
+	if err := l.load(); err != nil || len(d.List()) != 1 {
+		t.Errorf("a tally: %v, the files %q", err, d.List())
 	}
 }

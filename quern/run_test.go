@@ -2,6 +2,7 @@ package quern
 
 import (
 	"errors"
+	"maps"
 	"math"
 	"math/rand"
 	"slices"
@@ -166,6 +167,45 @@ func TestCountsHangOnTheWordsAlone(t *testing.T) {
 		other := api.Options{K: o.K, M: 1 + r.Intn(min(o.K, api.MaxM)), Bins: 1 + r.Intn(api.MaxBins)}
 		if one, two := told(done(t, inputOf(reads), o)), told(done(t, inputOf(mixed), other)); one != two {
 			t.Fatalf("P11: %q with %+v: %s; %q with %+v: %s", reads, o, one, mixed, other, two)
+		}
+	}
+}
+
+// both puts two lists of counts together.
+func both(one, two []api.Entry) []api.Entry {
+	counts := map[string]int{}
+	for _, e := range append(slices.Clone(one), two...) {
+		counts[e.Word] += e.Count
+	}
+	var all []api.Entry
+	for _, word := range slices.Sorted(maps.Keys(counts)) {
+		all = append(all, api.Entry{Word: word, Count: counts[word]})
+	}
+	return all
+}
+
+func allCounts(t *testing.T, input string, o api.Options) []api.Entry {
+	t.Helper()
+	b := opened(t, done(t, input, o))
+	n, _ := b.Sums()
+	entries, _ := b.Scan("", n)
+	return entries
+}
+
+func TestTwoInputsTogether(t *testing.T) {
+	r := rand.New(rand.NewSource(13))
+	for i := range 100 {
+		var reads []string
+		for range r.Intn(8) {
+			reads = append(reads, randomRead(r, "ACGTACGTN", 60))
+		}
+		at := r.Intn(len(reads) + 1)
+		o := randomOptions(r)
+		form := []func([]string) string{inputOf, fourLines}[i%2]
+		one, two := form(reads[:at]), form(reads[at:])
+		want := both(allCounts(t, one, o), allCounts(t, two, o))
+		if got := told(done(t, one+two, o)); got != countsText(o.K, want) {
+			t.Fatalf("P11: %q and %q together with %+v: %s, want %v", one, two, o, got, want)
 		}
 	}
 }
